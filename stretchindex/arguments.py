@@ -3,6 +3,7 @@
 from stretchindex.entries import GREATEST_KEY, GREATEST_NUMBER, LAST_MOMENT, LEAST_KEY, NEVER_AS_TOLD, end_from_told
 from stretchindex.refusals import EMPTY_STRETCH, OUT_OF_RANGE
 
+# The n of free is called length here, as unlike the n of shift it may not be 0.
 ARGUMENT_NAMES = {
     0: ("id", "key", "a", "b"),
     1: ("id",),
@@ -17,6 +18,16 @@ ARGUMENT_NAMES = {
     10: ("j", "k", "a", "b"),
     11: ("j", "k", "a", "b"),
     12: ("j", "k", "a", "b"),
+    13: ("id",),
+    14: ("i",),
+    15: ("key",),
+    16: ("key",),
+    17: ("key", "a", "b"),
+    18: ("key", "a", "length"),
+    19: ("key", "v"),
+    20: ("key", "v"),
+    21: ("a", "b"),
+    22: ("id",),
     23: (),
 }
 
@@ -32,6 +43,8 @@ def in_range(name, number):
         return LEAST_KEY <= number <= GREATEST_KEY
     if name == "b" and number == NEVER_AS_TOLD:
         return True
+    if name == "length":
+        return 1 <= number <= LAST_MOMENT
     return 0 <= number <= LAST_MOMENT
 
 

@@ -4,7 +4,7 @@ A tree is None if it is empty, else the Node on its top. It may be as deep as th
 entries, so it is built and walked by loops with a list of what is still waiting.
 """
 
-from stretchindex.entries import in_order
+from stretchindex.entries import in_order, rank
 
 
 class Node:
@@ -115,3 +115,13 @@ def depths(tree):
             node = node.left
         depth += 1
     return pairs
+
+
+def way_down(tree, entry):
+    """The entries from the top down to one that is in the tree, both among them."""
+    way = [tree.entry]
+    node = tree
+    while node.entry.number != entry.number:
+        node = node.left if rank(entry) < rank(node.entry) else node.right
+        way.append(node.entry)
+    return way

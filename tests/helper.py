@@ -8,13 +8,16 @@ from stretchindex.index import answers
 
 NUMBERS = {
     "add": 0, "drop": 1, "move": 2, "rekey": 3, "close": 4, "purge": 5, "shift": 6, "get": 7,
-    "count": 8, "stab": 9, "find": 10, "inside": 11, "around": 12, "shape": 23,
+    "count": 8, "stab": 9, "find": 10, "inside": 11, "around": 12, "place": 13, "nth": 14, "held": 15, "clash": 16,
+    "covered": 17, "free": 18, "prior": 19, "following": 20, "busiest": 21, "path": 22, "shape": 23,
 }
 ARGUMENTS = {
     "add": ["id", "key", "a", "b"], "drop": ["id"], "move": ["id", "a", "b"], "rekey": ["id", "key"],
     "close": ["j", "k", "v"], "purge": ["v"], "shift": ["j", "k", "n"], "get": ["id"], "count": [],
     "stab": ["v"], "find": ["j", "k", "a", "b"], "inside": ["j", "k", "a", "b"],
-    "around": ["j", "k", "a", "b"], "shape": [],
+    "around": ["j", "k", "a", "b"], "place": ["id"], "nth": ["i"], "held": ["key"], "clash": ["key"],
+    "covered": ["key", "a", "b"], "free": ["key", "a", "n"], "prior": ["key", "v"], "following": ["key", "v"],
+    "busiest": ["a", "b"], "path": ["id"], "shape": [],
 }
 LOW_KEY = -999999999999
 HIGH_KEY = 999999999999
@@ -65,6 +68,12 @@ def state_after(calls, numbers):
     return ask(*calls, *asked)[-len(asked):]
 
 
+def expected(calls):
+    """What the model answers, a list for each call."""
+    model = Model()
+    return [model.answer(call) for call in calls]
+
+
 def weight(number):
     return (number * 48271 + 11) % (2 ** 31 - 1)
 
@@ -86,9 +95,13 @@ class Model:
     def refusal(self, name, told):
         if any(not is_in_range(argument, number) for argument, number in told.items()):
             return -1
+        if name == "free" and told["n"] == 0:
+            return -1
         if "a" in told and "b" in told and told["b"] != -1 and not told["a"] < told["b"]:
             return -2
-        if name in ("drop", "move", "rekey", "get") and told["id"] not in self.entries:
+        if name in ("drop", "move", "rekey", "get", "place", "path") and told["id"] not in self.entries:
+            return -3
+        if name == "nth" and all(self.place(number) != [told["i"]] for number in self.entries):
             return -3
         if name == "add" and told["id"] in self.entries:
             return -4
@@ -187,6 +200,71 @@ class Model:
 
     def around(self, j, k, a, b):
         return self.counted(j, k, a, b, lambda first, end: first <= a and end >= b)
+
+    def place(self, number):
+        return [self.in_order(self.entries).index(number)]
+
+    def nth(self, i):
+        return self.get(self.in_order(self.entries)[i])
+
+    def of_key(self, key):
+        return self.in_order(self.keyed(key, key))
+
+    def holding(self, numbers, moment):
+        return sum(self.entries[number][1] <= moment < self.entries[number][2] for number in numbers)
+
+    def turns(self, numbers):
+        """The moments at which one of them begins or ends, in order."""
+        bounds = {bound for number in numbers for bound in self.entries[number][1:]}
+        return sorted(bounds - {float("inf")})
+
+    def held(self, key):
+        numbers = self.of_key(key)
+        bounds = [moment for moment in self.turns(numbers)
+                  if (self.holding(numbers, moment) > 0) != (self.holding(numbers, moment - 1) > 0)]
+        return [len(bounds), *bounds]
+
+    def clash(self, key):
+        numbers = self.of_key(key)
+        double = [moment for moment in self.turns(numbers) if self.holding(numbers, moment) > 1]
+        return [1, double[0]] if double else [0]
+
+    def covered(self, key, a, b):
+        numbers = self.of_key(key)
+        moments = [a] + [moment for moment in self.turns(numbers) if a < moment < b]
+        bare = [moment for moment in moments if self.holding(numbers, moment) == 0]
+        return [0, bare[0]] if bare else [1]
+
+    def free(self, key, a, n):
+        stretches = [self.entries[number][1:] for number in self.of_key(key)]
+        for moment in sorted([a] + [end for first, end in stretches if a < end < float("inf")]):
+            if all(end <= moment or moment + n <= first for first, end in stretches):
+                return [1, moment]
+        return [0]
+
+    def prior(self, key, v):
+        over = [number for number in self.of_key(key) if self.entries[number][2] <= v]
+        latest = [number for number in over if self.entries[number][2] == max(self.entries[x][2] for x in over)]
+        return [1, *self.get(latest[-1])] if latest else [0]
+
+    def following(self, key, v):
+        ahead = [number for number in self.of_key(key) if self.entries[number][1] >= v]
+        return [1, *self.get(ahead[0])] if ahead else [0]
+
+    def busiest(self, a, b):
+        moments = [a] + [moment for moment in self.turns(self.entries) if a < moment < b]
+        most = max(self.holding(self.entries, moment) for moment in moments)
+        return [most, min(moment for moment in moments if self.holding(self.entries, moment) == most)]
+
+    def path(self, number):
+        way = []
+        ordered = self.in_order(self.entries)
+        while number not in way:
+            top = max(ordered, key=weight)
+            way.append(top)
+            at = ordered.index(top)
+            ordered = ordered[:at] if number in ordered[:at] else ordered[at + 1:]
+        return [len(way), *way]
 
     def shape(self):
         told = [len(self.entries)]

@@ -3,10 +3,10 @@
 import random
 import unittest
 
-from helper import ARGUMENTS, HIGH_KEY, HUGE, LAST, LOW_KEY, Model, ask
+from helper import ARGUMENTS, HIGH_KEY, HUGE, LAST, LOW_KEY, Model, ask, expected
 
 CHANGES = ["add", "add", "add", "add", "drop", "move", "rekey", "close", "purge", "shift"]
-QUESTIONS = ["get", "count", "stab", "find", "inside", "around", "shape"]
+QUESTIONS = [name for name in ARGUMENTS if name not in CHANGES]
 
 
 def argument(source, name, span, number_pool):
@@ -20,6 +20,8 @@ def argument(source, name, span, number_pool):
         return -1 if source.random() < 0.2 else source.randint(0, span)
     if name == "n":
         return source.randint(0, 3)
+    if name == "i":
+        return source.randint(0, source.choice([3, 30, 200]))
     return source.randint(0, span)
 
 
@@ -35,7 +37,7 @@ def some_calls(seed):
         if rare and name in ("close", "purge", "shift") and source.random() < 0.9:
             name = "add"
         told = [argument(source, other, span, pool) for other in ARGUMENTS[name]]
-        if name != "close" and {"a", "b"} <= set(ARGUMENTS[name]) and told[-1] != -1 and source.random() < 0.9:
+        if {"a", "b"} <= set(ARGUMENTS[name]) and told[-1] != -1 and source.random() < 0.9:
             told[-2:] = sorted(told[-2:])
         calls.append((name, *told))
     return calls
@@ -45,10 +47,7 @@ class AgainstModel(unittest.TestCase):
     def test_many_lists(self):
         for seed in range(300):
             calls = some_calls(seed)
-            model = Model()
-            expected = [model.answer(call) for call in calls]
-            told = ask(*calls)
-            for call, answer, wanted in zip(calls, told, expected):
+            for call, answer, wanted in zip(calls, ask(*calls), expected(calls)):
                 self.assertEqual(answer, wanted, (seed, call))
 
     def test_the_lists_reach_every_answer(self):
@@ -64,7 +63,8 @@ class AgainstModel(unittest.TestCase):
             self.assertIn((name, 0), seen)
             if ARGUMENTS[name]:
                 self.assertIn((name, -1), seen)
-        self.assertLessEqual({("move", -2), ("drop", -3), ("add", -4), ("shift", -5)}, seen)
+        self.assertLessEqual({("move", -2), ("covered", -2), ("busiest", -2), ("drop", -3), ("place", -3), ("path", -3),
+                              ("nth", -3), ("add", -4), ("shift", -5)}, seen)
         self.assertGreater(most, 80)
 
 

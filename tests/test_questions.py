@@ -123,8 +123,10 @@ class QuestionsChangeNothing(unittest.TestCase):
     def test_the_state_is_as_it_was(self):
         before = ask(*ROW, *questions_on(range(1, 9)))[8:]
         asked = [("get", 1), ("get", 99), ("count",), ("stab", 12), ("find", 1, 9, 3, 4), ("inside", 1, 9, 3, -1),
-                 ("around", 9, 1, 3, 4), ("shape",)]
-        self.assertEqual(ask(*ROW, *asked, *questions_on(range(1, 9)))[16:], before)
+                 ("around", 9, 1, 3, 4), ("place", 3), ("place", 99), ("nth", 2), ("nth", 99), ("held", 7), ("clash", 7),
+                 ("covered", 4, 0, -1), ("covered", 4, 5, 5), ("free", 7, 0, 20), ("free", 7, 0, 0), ("prior", 3, 15),
+                 ("following", 3, 0), ("busiest", 0, -1), ("path", 1), ("path", 99), ("shape",)]
+        self.assertEqual(ask(*ROW, *asked, *questions_on(range(1, 9)))[8 + len(asked):], before)
 
 
 if __name__ == "__main__":

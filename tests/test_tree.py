@@ -3,7 +3,7 @@
 import itertools
 import unittest
 
-from helper import ALL, ask, last
+from helper import ALL, ask, expected, last
 
 THREE = [("add", 1, 5, 3, 9), ("add", 2, 5, 7, -1), ("add", 3, 2, 0, 4)]
 
@@ -43,6 +43,15 @@ class Promise17Shape(unittest.TestCase):
             told = last(*calls, ("shape",))
             pairs = [[number, 199 - number] for number in range(200)][::sign]
             self.assertEqual(told, [200] + [part for pair in pairs for part in pair])
+
+    def test_200_entries(self):
+        for step in (7919, 44489, 622833, 4999):
+            calls = [("add", number * step % 1000000, number % 7, number * 3 % 40, -1) for number in range(200)]
+            calls.append(("shape",))
+            told = ask(*calls)
+            self.assertEqual(told, expected(calls))
+            self.assertEqual(len(told[-1]), 401)
+            self.assertEqual(told[-1][2::2].count(0), 1)
 
     def test_zigzag(self):
         # Each top lies at the other side of what is left than the one above it.
